@@ -1,0 +1,1 @@
+"""Letters told by their places in a list that orders itself."""

@@ -1,0 +1,17 @@
+"""The bounds within which everything of this package stays."""
+
+MAX_PLACES = 12
+MAX_STAYING = 7
+MAX_CLASS = 120
+MAX_TEXT = 400
+MAX_BITS = 40
+MAX_PAIRED = 4
+MAX_COUNTED = 10 ** 30
+MAX_LEAF = 10
+MAX_PIECES = 40
+MAX_NESTED = 4
+MAX_EDITS = 40
+MAX_RUNGS = 67
+MAX_NAMES = 40
+MAX_ASKS = 40
+MAX_READ = 400

@@ -1,0 +1,1 @@
+"""Tests of forwardlists: `python3 -m unittest` at the top of the repository runs them all."""

@@ -1,0 +1,37 @@
+"""The interface: which functions each file defines, and with which arguments."""
+
+import importlib
+import inspect
+
+from tests.cases import Case
+
+INTERFACE = {
+    "rules": {
+        "rule_error": "value", "front": "n", "rule_text": "rule", "read_rule": "value",
+    },
+    "orders": {
+        "order_error": "n value", "text_error": "n value", "order_text": "order", "text_text": "text",
+        "read_order": "n value", "read_text": "n value",
+    },
+}
+
+
+class Interface(Case):
+    def test_each_file_defines_its_functions(self):
+        for name, functions in INTERFACE.items():
+            module = importlib.import_module("forwardlists." + name)
+            for function in functions:
+                with self.subTest(function):
+                    self.assertTrue(inspect.isfunction(getattr(module, function)))
+                    self.assertEqual(getattr(module, function).__module__, "forwardlists." + name)
+
+    def test_arguments_have_their_names_and_can_be_told_by_place_or_by_name(self):
+        for name, functions in INTERFACE.items():
+            module = importlib.import_module("forwardlists." + name)
+            for function, wanted in functions.items():
+                with self.subTest(function):
+                    told = inspect.signature(getattr(module, function)).parameters.values()
+                    self.assertEqual([one.name for one in told], wanted.split())
+                    for one in told:
+                        self.assertEqual(one.kind, one.POSITIONAL_OR_KEYWORD)
+                        self.assertIs(one.default, one.empty)

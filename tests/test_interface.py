@@ -13,6 +13,22 @@ INTERFACE = {
         "order_error": "n value", "text_error": "n value", "order_text": "order", "text_text": "text",
         "read_order": "n value", "read_text": "n value",
     },
+    "asking": {
+        "asked": "rule order letter", "run": "rule order text",
+    },
+    "blocks": {
+        "walls": "rule", "blocks": "rule", "is_forward": "rule", "is_front": "rule",
+    },
+    "classes": {
+        "kind_of": "rule block", "class_size": "rule", "comes_out": "rule one other", "least_order": "rule order",
+    },
+    "coding": {
+        "places_of": "rule order text", "text_behind": "rule order places", "cost": "rule order text",
+        "exchange": "one other", "under": "text swap",
+    },
+    "tables": {
+        "table_error": "n value", "is_full": "table", "unary": "n", "even_table": "n", "table_of": "lengths",
+    },
 }
 
 

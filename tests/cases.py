@@ -47,6 +47,26 @@ def all_orders(n):
     return list(itertools.permutations(range(n)))
 
 
+def all_of_three_places(most):
+    """All rules of three places, with all orders and all texts of at most `most` letters."""
+    for rule in all_rules(3):
+        for order in all_orders(3):
+            for many in range(most + 1):
+                for text in itertools.product(range(3), repeat=many):
+                    yield rule, order, text
+
+
+def spoilt(text, signs):
+    """text cut short, with a sign left out, and with one of signs put in or put in its place."""
+    for place in range(len(text) + 1):
+        yield text[:place]
+        yield text[place:]
+        yield text[:place] + text[place + 1:]
+        for sign in signs:
+            yield text[:place] + sign + text[place:]
+            yield text[:place] + sign + text[place + 1:]
+
+
 def some_rules(many, seed, least=6, most=12):
     """`many` rules of `least` to `most` places, the same ones at each call."""
     chance = random.Random(seed)

@@ -4,7 +4,7 @@ import itertools
 import random
 
 from forwardlists.asking import asked, run
-from tests.cases import Case, all_orders, all_rules, rules_up_to, some_order, some_rules, some_text
+from tests.cases import Case, all_of_three_places, all_orders, rules_up_to, some_order, some_rules, some_text
 
 
 def taken_and_put(rule, order, letter):
@@ -75,11 +75,8 @@ class Asked(Case):
 
 class Run(Case):
     def test_all_rules_of_three_places_with_all_orders_and_short_texts(self):
-        for rule in all_rules(3):
-            for order in all_orders(3):
-                for many in range(4):
-                    for text in itertools.product(range(3), repeat=many):
-                        self.check(rule, order, text)
+        for rule, order, text in all_of_three_places(3):
+            self.check(rule, order, text)
 
     def test_texts_of_400_letters_and_more(self):
         chance = random.Random(8)

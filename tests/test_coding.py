@@ -5,7 +5,8 @@ import random
 
 from forwardlists.asking import run
 from forwardlists.coding import cost, exchange, places_of, text_behind, under
-from tests.cases import Case, all_orders, all_rules, rules_up_to, some_order, some_rules, some_text
+from tests.cases import Case, all_of_three_places, all_orders, all_rules, rules_up_to
+from tests.cases import some_order, some_rules, some_text
 
 
 def looked_up(rule, order, text):
@@ -41,11 +42,8 @@ class Examples(Case):
 
 class Coder(Case):
     def test_all_rules_of_three_places_with_all_orders_and_short_texts(self):
-        for rule in all_rules(3):
-            for order in all_orders(3):
-                for many in range(4):
-                    for text in itertools.product(range(3), repeat=many):
-                        self.check(rule, order, text)
+        for rule, order, text in all_of_three_places(3):
+            self.check(rule, order, text)
 
     def test_longer_texts(self):
         for rule, order, _, text in ends(15, 40):

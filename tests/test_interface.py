@@ -31,6 +31,12 @@ INTERFACE = {
     },
 }
 
+# What may be handed to each function under these names.
+GIVEN = {
+    "value": (0, 1), "n": 2, "rule": (0, 0), "order": (1, 0), "text": (0, 1), "letter": 0, "block": (0, 2),
+    "one": (1, 0), "other": (0, 1), "places": (1, 1), "swap": (1, 0), "table": ("1", "0"), "lengths": (2, 1),
+}
+
 
 class Interface(Case):
     def test_each_file_defines_its_functions(self):
@@ -51,3 +57,16 @@ class Interface(Case):
                     for one in told:
                         self.assertEqual(one.kind, one.POSITIONAL_OR_KEYWORD)
                         self.assertIs(one.default, one.empty)
+
+    def test_by_place_and_by_name_the_same_is_told_and_nothing_is_changed(self):
+        for name, functions in INTERFACE.items():
+            module = importlib.import_module("forwardlists." + name)
+            for function, wanted in functions.items():
+                value = {"read_rule": "0 1", "read_order": "b a", "read_text": "b b"}.get(function, GIVEN["value"])
+                given = {word: GIVEN[word] for word in wanted.split()}
+                if "value" in given:
+                    given["value"] = value
+                call = getattr(module, function)
+                with self.subTest(function):
+                    self.exact(call(**given), call(*given.values()))
+                    self.keeps(call, *given.values())

@@ -6,7 +6,7 @@ import re
 
 from forwardlists.errors import BadOrder, BadText
 from forwardlists.orders import order_error, order_text, read_order, read_text, text_error, text_text
-from tests.cases import Case, all_orders, any_values, some_order, some_text
+from tests.cases import Case, all_orders, any_values, some_order, some_text, spoilt
 
 SIGNS = "abcdefghijkl"
 WHOLE = re.compile("[a-l]( [a-l])*")
@@ -67,17 +67,6 @@ def text_reading(n, value):
             alike += 1
         return BadText(alike)
     return reading(value, lambda letters: text_fault(n, letters))
-
-
-def spoilt(text):
-    """text with a sign put in, put in the place of another one, left out, and cut short."""
-    for place in range(len(text) + 1):
-        yield text[:place]
-        yield text[place:]
-        yield text[:place] + text[place + 1:]
-        for sign in "abclmnoA0 ,\n":
-            yield text[:place] + sign + text[place:]
-            yield text[:place] + sign + text[place + 1:]
 
 
 class Reader(Case):
@@ -244,7 +233,7 @@ class Reading(Reader):
 
     def test_spoilt_texts(self):
         for n, text in ((1, "a"), (2, "b a"), (3, "c a b"), (12, "l k j i h g f e d c b a"), (4, "none")):
-            for value in spoilt(text):
+            for value in spoilt(text, "abclmnoA0 ,\n"):
                 self.read_both(n, value)
 
     def test_any_value(self):

@@ -5,12 +5,11 @@ import re
 
 from forwardlists.errors import BadRule, BadText
 from forwardlists.rules import front, read_rule, rule_error, rule_text
-from tests.cases import Case, any_values, rules_up_to, some_rules
+from tests.cases import Case, any_values, rules_up_to, some_rules, spoilt
 
 NUMBER = "(0|[1-9][0-9]?)"
 WHOLE = re.compile(f"{NUMBER}( {NUMBER})*")
 BEGUN = re.compile(f"({NUMBER} )*{NUMBER}?")
-SIGNS = "0129 a-,\n"
 
 
 def fault(value):
@@ -31,17 +30,6 @@ def reading(value):
         rule = tuple(int(word) for word in value.split())
         return rule if fault(rule) is None else BadRule(fault(rule))
     return BadText(BEGUN.match(value).end())
-
-
-def spoilt(text):
-    """text with a sign put in, put in the place of another one, left out, and cut short."""
-    for place in range(len(text) + 1):
-        yield text[:place]
-        yield text[place:]
-        yield text[:place] + text[place + 1:]
-        for sign in SIGNS:
-            yield text[:place] + sign + text[place:]
-            yield text[:place] + sign + text[place + 1:]
 
 
 class Examples(Case):
@@ -156,7 +144,7 @@ class Reading(Case):
     def test_spoilt_texts(self):
         texts = [rule_text(rule) for rule in ((0,), (0, 1), (0, 0, 1, 3), tuple(range(12)), (0,) * 11 + (10,))]
         for text in texts:
-            for value in spoilt(text):
+            for value in spoilt(text, "0129 a-,\n"):
                 self.read(value)
 
     def test_any_value(self):

@@ -13,6 +13,12 @@ def blocks(rule):
     return tuple(zip(begins, ends))
 
 
+def own_rule(rule, block):
+    """Return the part of rule that orders block, told from its first place on."""
+    begin, end = block
+    return tuple([goal - begin for goal in rule[begin:end]])
+
+
 def is_forward(rule):
     """Return whether every place but the first one of its block is led ahead."""
     begins = walls(rule)

@@ -3,19 +3,13 @@
 from math import factorial
 
 from forwardlists.asking import asked
-from forwardlists.blocks import blocks
+from forwardlists.blocks import blocks, own_rule
 from forwardlists.bounds import MAX_STAYING
 from forwardlists.errors import TooMany
 
 # By these 120 of the 720 orders come, though no count of exchanges tells which.
 ODD_RULES = ((0, 1, 2, 0, 4, 1), (0, 1, 2, 0, 4, 2), (0, 1, 2, 3, 0, 2))
 ODD_SIZE = 120
-
-
-def _own_rule(rule, block):
-    """Return the part of rule that orders block, told from its first place on."""
-    begin, end = block
-    return tuple([goal - begin for goal in rule[begin:end]])
 
 
 def _check_staying(own):
@@ -27,7 +21,7 @@ def _check_staying(own):
 
 def kind_of(rule, block):
     """Return the word for the orders that come in block, one of blocks(rule)."""
-    own = _own_rule(rule, block)
+    own = own_rule(rule, block)
     _check_staying(own)
     steps = [place - own[place] for place in range(len(own)) if own[place] < place]
     if len(own) == 1:
@@ -62,8 +56,8 @@ def class_size(rule):
     return size
 
 
-def _all_behind(own, part):
-    """Return all orders that come out of part by own, found by going through all asks."""
+def all_behind(own, part):
+    """Return all orders of a block that come out of part by own, its rule, by going through all asks."""
     found = [part]
     known = {part: True}
     done = 0
@@ -91,7 +85,7 @@ def _least_part(kind, own, part):
         at = part.index(min(part))
         return part[at:] + part[:at]
     if kind == "odd":
-        return min(_all_behind(own, part))
+        return min(all_behind(own, part))
     least = tuple(sorted(part))
     if kind == "even" and not _is_even(part):
         return least[:-2] + (least[-1], least[-2])
@@ -103,7 +97,7 @@ def least_order(rule, order):
     least = ()
     for begin, end in blocks(rule):
         kind = kind_of(rule, (begin, end))
-        own = _own_rule(rule, (begin, end))
+        own = own_rule(rule, (begin, end))
         least = least + _least_part(kind, own, order[begin:end])
     return least
 

@@ -6,7 +6,11 @@ import random
 import unittest
 
 from forwardlists import errors
+from forwardlists.asking import asked
 from forwardlists.errors import ListError
+
+# A block of eight places, one of which stays behind the first one: of such nothing is told.
+STAYING = (0, 1, 0, 0, 0, 0, 0, 0)
 
 
 def nested(deep, make):
@@ -45,6 +49,19 @@ def rules_up_to(most):
 def all_orders(n):
     """All orders of n letters, the least one first."""
     return list(itertools.permutations(range(n)))
+
+
+def all_out(rule, order):
+    """All orders that come out of order, by going through all asks."""
+    found = [order]
+    known = {order}
+    for now in found:
+        for letter in order:
+            behind = asked(rule, now, letter)
+            if behind not in known:
+                known.add(behind)
+                found.append(behind)
+    return found
 
 
 def all_of_three_places(most):

@@ -29,12 +29,31 @@ INTERFACE = {
     "tables": {
         "table_error": "n value", "is_full": "table", "unary": "n", "even_table": "n", "table_of": "lengths",
     },
+    "streams": {
+        "stream": "table places", "places_read": "table value", "coded": "rule order table text",
+        "decoded": "rule order table value",
+    },
+    "besttables": {
+        "bits": "table counts", "best_table": "counts", "best_error": "counts value", "best_for": "rule order text",
+    },
+    "meeting": {
+        "meets": "rule one other", "meeting": "rule one other",
+    },
+    "resetting": {
+        "teller": "rule order", "reset": "rule order",
+    },
 }
 
 # What may be handed to each function under these names.
 GIVEN = {
     "value": (0, 1), "n": 2, "rule": (0, 0), "order": (1, 0), "text": (0, 1), "letter": 0, "block": (0, 2),
     "one": (1, 0), "other": (0, 1), "places": (1, 1), "swap": (1, 0), "table": ("1", "0"), "lengths": (2, 1),
+    "counts": (1, 2),
+}
+
+# What is handed in as value, where this is no tuple of two numbers.
+VALUES = {
+    "read_rule": "0 1", "read_order": "b a", "read_text": "b b", "places_read": "01", "decoded": "01",
 }
 
 
@@ -62,10 +81,9 @@ class Interface(Case):
         for name, functions in INTERFACE.items():
             module = importlib.import_module("forwardlists." + name)
             for function, wanted in functions.items():
-                value = {"read_rule": "0 1", "read_order": "b a", "read_text": "b b"}.get(function, GIVEN["value"])
                 given = {word: GIVEN[word] for word in wanted.split()}
                 if "value" in given:
-                    given["value"] = value
+                    given["value"] = VALUES.get(function, GIVEN["value"])
                 call = getattr(module, function)
                 with self.subTest(function):
                     self.exact(call(**given), call(*given.values()))

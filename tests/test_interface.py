@@ -42,13 +42,30 @@ INTERFACE = {
     "resetting": {
         "teller": "rule order", "reset": "rule order",
     },
+    "gaps": {
+        "unlike": "one other", "gap": "rule one other", "gap_text": "rule one other", "pair_gap": "rule one other",
+    },
+    "gaining": {
+        "gains": "rule", "gains_error": "rule value",
+    },
+    "summing": {
+        "summary": "n text", "joined": "one other", "least_turns": "firsts lasts", "summary_error": "n value",
+        "cost_from": "sums order", "behind": "sums order", "least_from": "n sums", "most_from": "n sums",
+        "order_with": "n sums number", "whole": "n sums",
+    },
+    "alike": {
+        "alike": "n one other", "parted": "n one other",
+    },
+    "fixed": {
+        "fixed_cost": "order counts", "best_fixed": "counts", "is_best": "order counts", "twice": "order text plain",
+    },
 }
 
 # What may be handed to each function under these names.
 GIVEN = {
     "value": (0, 1), "n": 2, "rule": (0, 0), "order": (1, 0), "text": (0, 1), "letter": 0, "block": (0, 2),
     "one": (1, 0), "other": (0, 1), "places": (1, 1), "swap": (1, 0), "table": ("1", "0"), "lengths": (2, 1),
-    "counts": (1, 2),
+    "counts": (1, 2), "firsts": (0, 1), "lasts": (1, 0), "sums": (1, (0, 1), (1, 0)), "number": 2, "plain": (0, 1),
 }
 
 # What is handed in as value, where this is no tuple of two numbers.
@@ -84,6 +101,8 @@ class Interface(Case):
                 given = {word: GIVEN[word] for word in wanted.split()}
                 if "value" in given:
                     given["value"] = VALUES.get(function, GIVEN["value"])
+                if function == "joined":
+                    given = {"one": GIVEN["sums"], "other": (0, (0,), (0,))}
                 call = getattr(module, function)
                 with self.subTest(function):
                     self.exact(call(**given), call(*given.values()))

@@ -71,6 +71,17 @@ class Language(Case):
                 self.assertEqual(sorted(read - own - BUILTINS), [])
                 self.assertEqual(sorted(own & set(dir(__import__("builtins"))) - {"_"}), [])
 
+    def test_no_name_is_bound_twice_by_imports_definitions_and_variables(self):
+        for file in files():
+            tree = ast.parse(file.read_text())
+            imported = [one.name for node in ast.walk(tree) if isinstance(node, ast.ImportFrom) for one in node.names]
+            defined = [node.name for node in tree.body if isinstance(node, NAMES)]
+            others = {node.id for node in ast.walk(tree) if isinstance(node, ast.Name) and isinstance(node.ctx, ast.Store)}
+            others |= {node.arg for node in ast.walk(tree) if isinstance(node, ast.arg)}
+            with self.subTest(file.name):
+                self.assertEqual(len(set(imported + defined)), len(imported + defined))
+                self.assertEqual(sorted(others & set(imported + defined)), [])
+
     def test_no_float_no_division_and_no_percent_in_a_string(self):
         for file in files():
             for node in ast.walk(ast.parse(file.read_text())):

@@ -18,11 +18,12 @@ def _best_lengths(counts):
     lots = [(count, (place,)) for place, count in enumerate(counts)]
     while len(lots) > 1:
         # The two least lots become one place, whose word is one bit shorter (Huffman).
-        least, second, *others = sorted(lots)
+        lots = sorted(lots)
+        least, second = lots[0], lots[1]
         together = least[1] + second[1]
         for place in together:
             lengths[place] += 1
-        lots = others + [(least[0] + second[0], together)]
+        lots = lots[2:] + [(least[0] + second[0], together)]
     return tuple(lengths)
 
 

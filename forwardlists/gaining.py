@@ -7,20 +7,21 @@ from forwardlists.orders import order_error, text_error
 
 
 def _late_place(rule):
-    """Return the least place that is not led to the first one of its block, behind this, with this one."""
+    """Return the least place behind the first one of its block that is not led to this first one."""
     for begin, end in blocks(rule):
         for place in range(begin + 1, end):
             if rule[place] != begin:
-                return place, begin
+                return place
     return None
 
 
-def _places_ahead(rule, late, begin):
-    """Return places at which asks bring what a round at the place late asks for to begin and behind it."""
+def _places_to_front(rule, late):
+    """Return places of asks by which the letters from rule[late] to late come to the front of their block."""
     goal = rule[late]
     if goal < late:
+        # From late to goal, from there to the front: then the next letter stands at late.
         return (late, goal) * (late - goal + 1)
-    # It stays; but what is asked for behind it, and led ahead of it, pushes it back to there.
+    # The one letter stays; but asks for what stands behind it, and goes ahead of it, push it back to there.
     behind = late + 1
     while rule[behind] >= late:
         behind += 1
@@ -32,9 +33,9 @@ def gains(rule):
     if is_front(rule):
         return None
     order = tuple(range(len(rule)))
-    late, begin = _late_place(rule)
-    lead = text_behind(rule, order, _places_ahead(rule, late, begin))
-    # Asked for at late by turns these cost more than ahead of it, where they stand behind lead.
+    late = _late_place(rule)
+    lead = text_behind(rule, order, _places_to_front(rule, late))
+    # In this round each letter is found at late; behind lead all are found ahead of it.
     return (order, lead, order[rule[late]:late + 1][::-1])
 
 

@@ -4,6 +4,7 @@ from forwardlists.asking import run
 from forwardlists.blocks import blocks, is_forward, own_rule
 from forwardlists.bounds import MAX_CLASS
 from forwardlists.classes import all_behind, class_size
+from forwardlists.coding import under
 from forwardlists.errors import TooMany, Unfit
 from forwardlists.meeting import forward_text, part_meeting
 
@@ -23,12 +24,13 @@ def _part_reset(own, part):
     if is_forward(own):
         return forward_text(part)
     text = ()
-    apart = all_behind(own, part)
+    # Found for one order, its letters called by their places, it is as long for each other one.
+    apart = all_behind(own, tuple(range(len(part))))
     while len(apart) > 1:
         more = part_meeting(own, apart[0], apart[1])
         text = text + more
         apart = sorted(set([run(own, now, more) for now in apart]))
-    return text
+    return under(text, part)
 
 
 def reset(rule, order):

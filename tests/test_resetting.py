@@ -126,6 +126,17 @@ class Reset(Case):
         for rule in all_rules(5):
             self.check(rule, some_order(chance, 5))
 
+    def test_single_blocks_of_up_to_seven_places_take_few_letters(self):
+        chance = random.Random(76)
+        longest = 0
+        for rule in rules_up_to(7):
+            if len(blocks(rule)) == 1 and class_size(rule) <= 120:
+                order = some_order(chance, len(rule))
+                self.check(rule, order)
+                longest = max(longest, len(reset(rule, order)))
+        # So beside such a block there is room in a text for others, as a class has few orders.
+        self.assertLess(longest, 100)
+
     def test_rules_of_six_and_seven_places(self):
         chance = random.Random(74)
         some = chance.sample(all_rules(6), 60) + chance.sample(all_rules(7), 20)

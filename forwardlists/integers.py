@@ -10,3 +10,12 @@ def is_number(value):
 def is_within(value, least, most):
     """Return whether value, any value, is an integer from least to most."""
     return is_number(value) and least <= value <= most
+
+
+def is_same(value, wanted):
+    """Return whether value, any value, is wanted: an integer, or a tuple of such and of tuples likewise."""
+    if not isinstance(wanted, tuple):
+        return is_number(value) and value == wanted
+    if not isinstance(value, tuple) or len(value) != len(wanted):
+        return False
+    return all([is_same(item, other) for item, other in zip(value, wanted)])

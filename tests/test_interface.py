@@ -59,6 +59,34 @@ INTERFACE = {
     "fixed": {
         "fixed_cost": "order counts", "best_fixed": "counts", "is_best": "order counts", "twice": "order text plain",
     },
+    "leasts": {
+        "counts_of": "n text", "changes": "text b c", "pairs_table": "n text", "late": "order text",
+        "least_cost": "order counts", "least_text": "order counts",
+    },
+    "ropes": {
+        "rope_error": "n value", "rope_text": "rope", "rope_of": "n text", "part_sums": "n rope begin end",
+        "rope_joined": "n one other", "rope_in": "n rope at text", "rope_out": "n rope begin end",
+    },
+    "desks": {
+        "desk_behind": "n value",
+    },
+    "papers": {
+        "gap_paper": "rule one other", "gap_paper_error": "rule one other value",
+        "meeting_paper": "rule one other", "meeting_paper_error": "rule one other value",
+        "alike_paper": "n one other", "alike_paper_error": "n one other value",
+        "ladder": "n sums", "ladder_error": "n sums value",
+    },
+}
+
+# The methods that each class defines itself, with their arguments.
+CLASSES = {
+    "desks": {
+        "Desk": {
+            "__init__": "n", "insert": "at text", "erase": "begin end", "move": "begin end to", "undo": "", "redo": "",
+            "cost_by": "order", "behind_by": "order", "part_cost": "begin end order", "span": "", "copy": "",
+            "__eq__": "other",
+        },
+    },
 }
 
 # What may be handed to each function under these names.
@@ -66,11 +94,19 @@ GIVEN = {
     "value": (0, 1), "n": 2, "rule": (0, 0), "order": (1, 0), "text": (0, 1), "letter": 0, "block": (0, 2),
     "one": (1, 0), "other": (0, 1), "places": (1, 1), "swap": (1, 0), "table": ("1", "0"), "lengths": (2, 1),
     "counts": (1, 2), "firsts": (0, 1), "lasts": (1, 0), "sums": (1, (0, 1), (1, 0)), "number": 2, "plain": (0, 1),
+    "b": 0, "c": 1, "rope": (2, (0, (1, 0), (1, 0)), (1, 0)), "begin": 0, "end": 1, "at": 1,
 }
 
 # What is handed in as value, where this is no tuple of two numbers.
 VALUES = {
     "read_rule": "0 1", "read_order": "b a", "read_text": "b b", "places_read": "01", "decoded": "01",
+    "desk_behind": (("insert", 0, (1, 0)),),
+}
+
+# What is handed in, where a function means something else by these names.
+OTHERS = {
+    "joined": {"one": (1, (0, 1), (1, 0)), "other": (0, (0,), (0,))},
+    "rope_joined": {"one": (1, (0, (0,), (0,)), (0,)), "other": (1, (0, (1,), (1,)), (1,))},
 }
 
 
@@ -101,9 +137,26 @@ class Interface(Case):
                 given = {word: GIVEN[word] for word in wanted.split()}
                 if "value" in given:
                     given["value"] = VALUES.get(function, GIVEN["value"])
-                if function == "joined":
-                    given = {"one": GIVEN["sums"], "other": (0, (0,), (0,))}
+                given.update(OTHERS.get(function, {}))
                 call = getattr(module, function)
                 with self.subTest(function):
-                    self.exact(call(**given), call(*given.values()))
+                    by_name, by_place = call(**given), call(*given.values())
+                    if function == "desk_behind":
+                        by_name, by_place = by_name.log, by_place.log
+                    self.exact(by_name, by_place)
                     self.keeps(call, *given.values())
+
+    def test_each_class_defines_its_methods_in_its_file(self):
+        for name, classes in CLASSES.items():
+            module = importlib.import_module("forwardlists." + name)
+            for word, methods in classes.items():
+                kind = getattr(module, word)
+                self.assertEqual((kind.__module__, kind.__bases__), ("forwardlists." + name, (object,)))
+                for method, wanted in methods.items():
+                    with self.subTest(method):
+                        self.assertTrue(inspect.isfunction(vars(kind)[method]))
+                        told = list(inspect.signature(vars(kind)[method]).parameters.values())[1:]
+                        self.assertEqual([one.name for one in told], wanted.split())
+                        for one in told:
+                            self.assertEqual(one.kind, one.POSITIONAL_OR_KEYWORD)
+                            self.assertIs(one.default, one.empty)

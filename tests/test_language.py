@@ -26,6 +26,7 @@ def bound(tree):
     """All names that a file binds: by def, class, import, parameter or assignment."""
     names = {node.name for node in ast.walk(tree) if isinstance(node, NAMES)}
     names |= {node.arg for node in ast.walk(tree) if isinstance(node, ast.arg)}
+    names |= {node.name for node in ast.walk(tree) if isinstance(node, ast.ExceptHandler) and node.name}
     names |= {one.asname or one.name for node in ast.walk(tree) if isinstance(node, ast.ImportFrom) for one in node.names}
     return names | {node.id for node in ast.walk(tree) if isinstance(node, ast.Name) and not isinstance(node.ctx, ast.Load)}
 

@@ -121,7 +121,7 @@ def ladder(n, sums):
     """Return a ladder of sums: orders from the least to the greatest cost, neighbours exchanged at each step."""
     firsts = sums[1]
     rungs = [firsts + tuple([letter for letter in range(n) if letter not in firsts])]
-    for start in reversed(range(len(firsts))):
+    for start in range(len(firsts) - 1, -1, -1):
         # The letter at start goes behind all others, also those that have gone there ahead of it.
         for place in range(start, n - 1):
             order = rungs[-1]

@@ -76,6 +76,18 @@ INTERFACE = {
         "alike_paper": "n one other", "alike_paper_error": "n one other value",
         "ladder": "n sums", "ladder_error": "n sums value",
     },
+    "lexing": {
+        "is_name": "value", "tokens": "value",
+    },
+    "books": {
+        "book_error": "value", "order_in": "book name", "table_in": "book name", "text_in": "book name",
+    },
+    "booktexts": {
+        "book_text": "book", "read_book": "value",
+    },
+    "answers": {
+        "answered": "book",
+    },
 }
 
 # The methods that each class defines itself, with their arguments.
@@ -87,6 +99,11 @@ CLASSES = {
             "__eq__": "other",
         },
     },
+    "shells": {
+        "Shell": {
+            "__init__": "", "say": "line",
+        },
+    },
 }
 
 # What may be handed to each function under these names.
@@ -95,19 +112,27 @@ GIVEN = {
     "one": (1, 0), "other": (0, 1), "places": (1, 1), "swap": (1, 0), "table": ("1", "0"), "lengths": (2, 1),
     "counts": (1, 2), "firsts": (0, 1), "lasts": (1, 0), "sums": (1, (0, 1), (1, 0)), "number": 2, "plain": (0, 1),
     "b": 0, "c": 1, "rope": (2, (0, (1, 0), (1, 0)), (1, 0)), "begin": 0, "end": 1, "at": 1,
+    "book": (("a", "b"), (0, 0), (("x", (1, 0)),), (("y", ("0", "1")),), (("z", (1, 1)),), (("bits", "z", "y", "x"),)),
 }
 
 # What is handed in as value, where this is no tuple of two numbers.
 VALUES = {
     "read_rule": "0 1", "read_order": "b a", "read_text": "b b", "places_read": "01", "decoded": "01",
-    "desk_behind": (("insert", 0, (1, 0)),),
+    "desk_behind": (("insert", 0, (1, 0)),), "tokens": "a 0;", "read_book": "letters a;rule 0;",
 }
 
 # What is handed in, where a function means something else by these names.
 OTHERS = {
     "joined": {"one": (1, (0, 1), (1, 0)), "other": (0, (0,), (0,))},
     "rope_joined": {"one": (1, (0, (0,), (0,)), (0,)), "other": (1, (0, (1,), (1,)), (1,))},
+    "order_in": {"name": "x"}, "table_in": {"name": "y"}, "text_in": {"name": "z"},
 }
+
+
+def given_to(function, wanted):
+    """What may be handed to a function with these arguments, by their names."""
+    others = {"value": VALUES[function]} if function in VALUES else OTHERS.get(function, {})
+    return {word: others[word] if word in others else GIVEN[word] for word in wanted.split()}
 
 
 class Interface(Case):
@@ -134,10 +159,7 @@ class Interface(Case):
         for name, functions in INTERFACE.items():
             module = importlib.import_module("forwardlists." + name)
             for function, wanted in functions.items():
-                given = {word: GIVEN[word] for word in wanted.split()}
-                if "value" in given:
-                    given["value"] = VALUES.get(function, GIVEN["value"])
-                given.update(OTHERS.get(function, {}))
+                given = given_to(function, wanted)
                 call = getattr(module, function)
                 with self.subTest(function):
                     by_name, by_place = call(**given), call(*given.values())
